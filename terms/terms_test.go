@@ -7,6 +7,7 @@ import (
 	"testing"
 
 	"proofprograms/api"
+	"proofprograms/samples"
 	"proofprograms/terms"
 	"proofprograms/types"
 )
@@ -21,127 +22,19 @@ var (
 	_ func(api.Term, []api.Term) (api.Term, api.Errno) = terms.Apply
 )
 
+// What the tests are made of.
 var (
-	nat  = api.Type{Kind: api.TypeNat}
-	list = api.Type{Kind: api.TypeList}
-	unit = api.Type{Kind: api.TypeUnit}
+	nat, list, unit  = samples.Nat, samples.List, samples.Unit
+	zero, none, only = samples.Zero, samples.None, samples.Only
+	both, fun, wide  = samples.Both, samples.Fun, samples.Wide
 
-	zero = node(api.TermZero)
-	none = node(api.TermNil)
-	only = node(api.TermUnit)
+	node, typed        = samples.Node, samples.Typed
+	v, lam, app        = samples.Var, samples.Lam, samples.App
+	succ, cons, pair   = samples.Succ, samples.Cons, samples.Pair
+	rec, fold          = samples.Rec, samples.Fold
+	above, right, left = samples.Above, samples.Right, samples.Left
+	full, small, deep  = samples.Full, samples.Small, samples.Deep
 )
-
-func both(a, b api.Type) api.Type {
-	return api.Type{Kind: api.TypePair, Args: []api.Type{a, b}}
-}
-
-func fun(a, b api.Type) api.Type {
-	return api.Type{Kind: api.TypeFun, Args: []api.Type{a, b}}
-}
-
-// wide returns a type with 2*n+1 nodes.
-func wide(n int, last api.Type) api.Type {
-	for range n {
-		last = fun(nat, last)
-	}
-	return last
-}
-
-// node returns any tree without Index and Type, whether it is a term or not.
-func node(kind int, l ...api.Term) api.Term { return api.Term{Kind: kind, Args: l} }
-
-// typed returns any tree without Index, whether it is a term or not.
-func typed(kind int, s api.Type, l ...api.Term) api.Term {
-	return api.Term{Kind: kind, Type: s, Args: l}
-}
-
-func v(i int) api.Term { return api.Term{Kind: api.TermVar, Index: i} }
-
-func lam(s api.Type, b api.Term) api.Term { return typed(api.TermLam, s, b) }
-
-func app(f, a api.Term) api.Term { return node(api.TermApp, f, a) }
-
-func succ(n api.Term) api.Term { return node(api.TermSucc, n) }
-
-func pair(a, b api.Term) api.Term { return node(api.TermPair, a, b) }
-
-func rec(s api.Type, l ...api.Term) api.Term { return typed(api.TermRec, s, l...) }
-
-func fold(s api.Type, l ...api.Term) api.Term { return typed(api.TermFold, s, l...) }
-
-// above returns n nodes TermSucc on a tree.
-func above(n int, t api.Term) api.Term {
-	for range n {
-		t = succ(t)
-	}
-	return t
-}
-
-// right returns n nodes TermPair, nested in their second Args.
-func right(n int, last api.Term) api.Term {
-	for range n {
-		last = pair(zero, last)
-	}
-	return last
-}
-
-// left returns n nodes TermPair, nested in their first Args.
-func left(n int, last api.Term) api.Term {
-	for range n {
-		last = pair(last, zero)
-	}
-	return last
-}
-
-// full returns a tree of TermPair with 2^(depth+1) - 1 nodes.
-func full(depth int) api.Term {
-	if depth == 0 {
-		return zero
-	}
-	return pair(full(depth-1), full(depth-1))
-}
-
-// small returns all valid terms with at most most nodes, with a few variables and types.
-func small(most int) []api.Term {
-	some := []api.Type{nat, list, fun(nat, nat)}
-	by := map[int][]api.Term{1: {v(0), v(1), v(2), zero, none, only}}
-	all := slices.Clone(by[1])
-	for n := 2; n <= most; n++ {
-		for _, a := range by[n-1] {
-			by[n] = append(by[n], succ(a), node(api.TermFst, a), node(api.TermSnd, a))
-			for _, s := range some {
-				by[n] = append(by[n], lam(s, a))
-			}
-		}
-		for i := 1; i < n-1; i++ {
-			for _, a := range by[i] {
-				for _, b := range by[n-1-i] {
-					by[n] = append(by[n], app(a, b), pair(a, b), node(api.TermCons, a, b))
-				}
-			}
-		}
-		all = append(all, by[n]...)
-	}
-	return all
-}
-
-// deepType returns a copy that shares no memory.
-func deepType(t api.Type) api.Type {
-	c := api.Type{Kind: t.Kind}
-	for _, a := range t.Args {
-		c.Args = append(c.Args, deepType(a))
-	}
-	return c
-}
-
-// deep returns a copy that shares no memory.
-func deep(t api.Term) api.Term {
-	c := api.Term{Kind: t.Kind, Index: t.Index, Type: deepType(t.Type)}
-	for _, a := range t.Args {
-		c.Args = append(c.Args, deep(a))
-	}
-	return c
-}
 
 // must fails the test if what a call returned is not what it should be (reflect tells nil from empty slices apart: nil is the zero value).
 func must(t *testing.T, what string, got, want any) {
@@ -182,7 +75,7 @@ func TestValid(t *testing.T) {
 		{"successor", succ(zero), 2},
 		{"recursion", rec(nat, zero, v(0), v(1)), 4},
 		{"empty list", none, 1},
-		{"list", node(api.TermCons, zero, none), 3},
+		{"list", cons(zero, none), 3},
 		{"fold", fold(list, none, v(0), v(1)), 4},
 		{"pair", pair(zero, none), 3},
 		{"first", node(api.TermFst, v(0)), 2},
@@ -377,7 +270,7 @@ func TestTypes(t *testing.T) {
 		{rec(nat, zero, lam(nat, v(3)), v(0)), nat},
 		{rec(fun(nat, nat), v(2), lam(nat, lam(fun(nat, nat), v(0))), v(0)), fun(nat, nat)},
 		{none, list},
-		{node(api.TermCons, v(0), v(1)), list},
+		{cons(v(0), v(1)), list},
 		{fold(p, v(3), v(5), v(1)), p},
 		{fold(nat, zero, lam(nat, lam(list, lam(nat, succ(v(0))))), v(1)), nat},
 		{pair(v(1), v(2)), both(list, fun(nat, nat))},
@@ -399,7 +292,7 @@ func TestWrongTypes(t *testing.T) {
 		rec(nat, v(1), v(2), v(0)), rec(nat, zero, v(2), v(0)), rec(nat, zero, v(0), v(0)), rec(nat, v(0), v(4), v(0)),
 		rec(list, v(3), v(4), v(0)), rec(both(nat, list), v(0), v(4), v(0)), rec(both(nat, list), v(3), v(5), v(0)),
 		rec(both(nat, list), v(3), v(4), v(1)), rec(both(nat, list), v(3), v(4), v(3)), rec(both(list, nat), v(3), v(4), v(0)),
-		node(api.TermCons, v(1), v(1)), node(api.TermCons, v(0), v(0)), node(api.TermCons, v(1), v(0)), node(api.TermCons, v(2), v(1)), node(api.TermCons, v(0), only),
+		cons(v(1), v(1)), cons(v(0), v(0)), cons(v(1), v(0)), cons(v(2), v(1)), cons(v(0), only),
 		fold(nat, v(3), v(5), v(1)), fold(both(nat, list), v(0), v(5), v(1)), fold(both(nat, list), v(3), v(4), v(1)),
 		fold(both(nat, list), v(3), v(5), v(0)), fold(both(nat, list), v(3), v(1), v(1)), fold(list, v(1), v(5), v(1)),
 		fold(nat, zero, lam(list, lam(nat, lam(nat, v(0)))), v(1)),

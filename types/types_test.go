@@ -7,6 +7,7 @@ import (
 	"testing"
 
 	"proofprograms/api"
+	"proofprograms/samples"
 	"proofprograms/types"
 )
 
@@ -22,18 +23,14 @@ var (
 	_ func([]api.Type) api.Errno                       = types.Context
 )
 
+// What the tests are made of.
 var (
-	nat  = api.Type{Kind: api.TypeNat}
-	list = api.Type{Kind: api.TypeList}
-	unit = api.Type{Kind: api.TypeUnit}
+	nat, list, unit = samples.Nat, samples.List, samples.Unit
+	pair, fun, deep = samples.Both, samples.Fun, samples.DeepType
 )
 
 // node returns any tree, whether it is a type or not.
 func node(kind int, l ...api.Type) api.Type { return api.Type{Kind: kind, Args: l} }
-
-func pair(a, b api.Type) api.Type { return node(api.TypePair, a, b) }
-
-func fun(a, b api.Type) api.Type { return node(api.TypeFun, a, b) }
 
 // right returns a type with 2*n+1 nodes, nested in its second Args.
 func right(kind, n int, last api.Type) api.Type {
@@ -79,15 +76,6 @@ func all(most int) []api.Type {
 		l = append(l, by[n]...)
 	}
 	return l
-}
-
-// deep returns a copy that shares no memory.
-func deep(t api.Type) api.Type {
-	c := api.Type{Kind: t.Kind}
-	for _, a := range t.Args {
-		c.Args = append(c.Args, deep(a))
-	}
-	return c
 }
 
 // must fails the test if what a call returned is not what it should be (reflect tells nil from empty slices apart: nil is the zero value).

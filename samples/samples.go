@@ -1,0 +1,153 @@
+// Package samples makes types and terms, and trees that are none, for the tests of the layers. No layer uses it.
+package samples
+
+import (
+	"slices"
+
+	"proofprograms/api"
+)
+
+// The types without parts.
+var (
+	Nat  = api.Type{Kind: api.TypeNat}
+	List = api.Type{Kind: api.TypeList}
+	Unit = api.Type{Kind: api.TypeUnit}
+)
+
+// The closed terms without parts.
+var (
+	Zero = api.Term{Kind: api.TermZero}
+	None = api.Term{Kind: api.TermNil}
+	Only = api.Term{Kind: api.TermUnit}
+)
+
+// Both returns the type of pairs of two types.
+func Both(a, b api.Type) api.Type {
+	return api.Type{Kind: api.TypePair, Args: []api.Type{a, b}}
+}
+
+// Fun returns the type of functions from a to b.
+func Fun(a, b api.Type) api.Type {
+	return api.Type{Kind: api.TypeFun, Args: []api.Type{a, b}}
+}
+
+// Wide returns a type with 2*n+1 nodes, if the last one is one node.
+func Wide(n int, last api.Type) api.Type {
+	for range n {
+		last = Fun(Nat, last)
+	}
+	return last
+}
+
+// Node returns any tree without Index and Type, whether it is a term or not.
+func Node(kind int, l ...api.Term) api.Term { return api.Term{Kind: kind, Args: l} }
+
+// Typed returns any tree without Index, whether it is a term or not.
+func Typed(kind int, s api.Type, l ...api.Term) api.Term {
+	return api.Term{Kind: kind, Type: s, Args: l}
+}
+
+// Var returns a variable, also one with an Index that none has.
+func Var(i int) api.Term { return api.Term{Kind: api.TermVar, Index: i} }
+
+// Lam returns a function.
+func Lam(s api.Type, b api.Term) api.Term { return Typed(api.TermLam, s, b) }
+
+// App returns f applied to terms, one after the other.
+func App(f api.Term, l ...api.Term) api.Term {
+	for _, a := range l {
+		f = Node(api.TermApp, f, a)
+	}
+	return f
+}
+
+// Succ returns the number after n.
+func Succ(n api.Term) api.Term { return Node(api.TermSucc, n) }
+
+// Cons returns a list.
+func Cons(h, l api.Term) api.Term { return Node(api.TermCons, h, l) }
+
+// Pair returns a pair.
+func Pair(a, b api.Term) api.Term { return Node(api.TermPair, a, b) }
+
+// Rec returns a recursion over a number; l are its three Args, or others.
+func Rec(s api.Type, l ...api.Term) api.Term { return Typed(api.TermRec, s, l...) }
+
+// Fold returns a recursion over a list; l are its three Args, or others.
+func Fold(s api.Type, l ...api.Term) api.Term { return Typed(api.TermFold, s, l...) }
+
+// Above returns n nodes TermSucc on a tree.
+func Above(n int, t api.Term) api.Term {
+	for range n {
+		t = Succ(t)
+	}
+	return t
+}
+
+// Right returns n nodes TermPair, nested in their second Args.
+func Right(n int, last api.Term) api.Term {
+	for range n {
+		last = Pair(Zero, last)
+	}
+	return last
+}
+
+// Left returns n nodes TermPair, nested in their first Args.
+func Left(n int, last api.Term) api.Term {
+	for range n {
+		last = Pair(last, Zero)
+	}
+	return last
+}
+
+// Full returns a tree of TermPair with 2^(depth+1) - 1 nodes.
+func Full(depth int) api.Term {
+	if depth == 0 {
+		return Zero
+	}
+	return Pair(Full(depth-1), Full(depth-1))
+}
+
+// Small returns all valid terms with at most most nodes, with a few variables and types, and without TermRec and TermFold.
+func Small(most int) []api.Term {
+	some := []api.Type{Nat, List, Fun(Nat, Nat)}
+	by := [][]api.Term{nil, {Var(0), Var(1), Var(2), Zero, None, Only}}
+	all := slices.Clone(by[1])
+	for n := 2; n <= most; n++ {
+		var l []api.Term
+		for _, a := range by[n-1] {
+			l = append(l, Succ(a), Node(api.TermFst, a), Node(api.TermSnd, a))
+			for _, s := range some {
+				l = append(l, Lam(s, a))
+			}
+		}
+		for i := 1; i < n-1; i++ {
+			for _, a := range by[i] {
+				for _, b := range by[n-1-i] {
+					l = append(l, App(a, b), Pair(a, b), Cons(a, b))
+				}
+			}
+		}
+		by = append(by, l)
+		all = append(all, l...)
+	}
+	return all
+}
+
+// DeepType returns a copy that shares no memory.
+func DeepType(t api.Type) api.Type {
+	c := api.Type{Kind: t.Kind}
+	for _, a := range t.Args {
+		c.Args = append(c.Args, DeepType(a))
+	}
+	return c
+}
+
+// Deep returns a copy that shares no memory.
+func Deep(t api.Term) api.Term {
+	c := api.Term{Kind: t.Kind, Index: t.Index, Type: DeepType(t.Type)}
+	for _, a := range t.Args {
+		c.Args = append(c.Args, Deep(a))
+	}
+	return c
+}
