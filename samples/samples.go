@@ -5,6 +5,7 @@ import (
 	"slices"
 
 	"proofprograms/api"
+	"proofprograms/types"
 )
 
 // The types without parts.
@@ -150,4 +151,103 @@ func Deep(t api.Term) api.Term {
 		c.Args = append(c.Args, Deep(a))
 	}
 	return c
+}
+
+// Choices hands out numbers, the same ones for the same start, by which larger terms are put together.
+type Choices struct{ State uint64 }
+
+// Below returns a number from 0 to n - 1.
+func (c *Choices) Below(n int) int {
+	c.State = c.State*6364136223846793005 + 1442695040888963407
+	return int(c.State>>33) % n
+}
+
+// Mixed returns a valid term of all kinds, which mostly has no type, at most depth nodes above each other.
+func (c *Choices) Mixed(depth int) api.Term {
+	if depth <= 1 {
+		return []api.Term{Var(0), Var(1), Var(2), Zero, None, Only}[c.Below(6)]
+	}
+	s, a, b := c.Simple(), c.Mixed(depth-1), c.Mixed(depth-1)
+	switch c.Below(12) {
+	case 0, 1:
+		return Lam(s, a)
+	case 2, 3:
+		return App(Lam(s, a), b)
+	case 4:
+		return App(a, b)
+	case 5:
+		return Succ(a)
+	case 6:
+		return Cons(a, b)
+	case 7:
+		return Pair(a, b)
+	case 8:
+		return Node(api.TermFst, a)
+	case 9:
+		return Node(api.TermSnd, a)
+	case 10:
+		return Rec(s, a, b, c.Mixed(depth-1))
+	}
+	return Fold(s, a, b, c.Mixed(depth-1))
+}
+
+// Simple returns a small type.
+func (c *Choices) Simple() api.Type {
+	return []api.Type{Nat, List, Unit, Fun(Nat, Nat), Both(Nat, List), Fun(Fun(Nat, Nat), List)}[c.Below(6)]
+}
+
+// OfType returns a term of a type in a context, at most about depth nodes above each other.
+func (c *Choices) OfType(context []api.Type, t api.Type, depth int) api.Term {
+	if depth <= 1 {
+		return c.leaf(context, t)
+	}
+	of := func(u api.Type) api.Term { return c.OfType(context, u, depth-1) }
+	s := c.Simple()
+	switch c.Below(9) {
+	case 0, 1:
+		return App(of(Fun(s, t)), of(s))
+	case 2:
+		return Node(api.TermFst, of(Both(t, s)))
+	case 3:
+		return Node(api.TermSnd, of(Both(s, t)))
+	case 4:
+		return Rec(t, of(t), of(Fun(Nat, Fun(t, t))), of(Nat))
+	case 5:
+		return Fold(t, of(t), of(Fun(Nat, Fun(List, Fun(t, t)))), of(List))
+	}
+	return c.made(context, t, depth)
+}
+
+// leaf returns a variable of a type, if there is one, or else a term without choices.
+func (c *Choices) leaf(context []api.Type, t api.Type) api.Term {
+	var l []api.Term
+	for i, u := range context {
+		if types.Same(t, u) {
+			l = append(l, Var(len(context)-1-i))
+		}
+	}
+	if len(l) > 0 {
+		return l[c.Below(len(l))]
+	}
+	return c.made(context, t, 1)
+}
+
+// made returns a term of a type whose root makes what has this type.
+func (c *Choices) made(context []api.Type, t api.Type, depth int) api.Term {
+	of := func(u api.Type) api.Term { return c.OfType(context, u, depth-1) }
+	switch {
+	case t.Kind == api.TypePair:
+		return Pair(of(t.Args[0]), of(t.Args[1]))
+	case t.Kind == api.TypeFun:
+		return Lam(t.Args[0], c.OfType(append(slices.Clone(context), t.Args[0]), t.Args[1], depth-1))
+	case t.Kind == api.TypeNat && depth > 1:
+		return Succ(of(Nat))
+	case t.Kind == api.TypeNat:
+		return Zero
+	case t.Kind == api.TypeList && depth > 1:
+		return Cons(of(Nat), of(List))
+	case t.Kind == api.TypeList:
+		return None
+	}
+	return Only
 }
