@@ -33,6 +33,7 @@ var (
 	succ, cons, pair  = samples.Succ, samples.Cons, samples.Pair
 	rec, fold         = samples.Rec, samples.Fold
 	above, full, deep = samples.Above, samples.Full, samples.Deep
+	num, numbers      = samples.Number, samples.Numbers
 )
 
 // The greatest Index that may be reduced, and the greatest number.
@@ -40,18 +41,6 @@ const (
 	farthest = 1 << 29
 	greatest = 1<<63 - 1
 )
-
-// num returns the term of a number.
-func num(n int) api.Term { return above(n, zero) }
-
-// numbers returns the term of a list.
-func numbers(l ...int) api.Term {
-	t := none
-	for _, n := range slices.Backward(l) {
-		t = cons(num(n), t)
-	}
-	return t
-}
 
 // first and second return a part of a pair.
 func first(p api.Term) api.Term  { return node(api.TermFst, p) }

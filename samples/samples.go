@@ -1,4 +1,4 @@
-// Package samples makes types and terms, and trees that are none, for the tests of the layers. No layer uses it.
+// Package samples makes types, terms and values, and trees that are none, for the tests of the layers. No layer uses it.
 package samples
 
 import (
@@ -21,6 +21,9 @@ var (
 	None = api.Term{Kind: api.TermNil}
 	Only = api.Term{Kind: api.TermUnit}
 )
+
+// Single is the value of the unit type.
+var Single = api.Value{Kind: api.ValueUnit}
 
 // Both returns the type of pairs of two types.
 func Both(a, b api.Type) api.Type {
@@ -101,6 +104,29 @@ func Left(n int, last api.Term) api.Term {
 	return last
 }
 
+// Number returns the term of a number.
+func Number(n int) api.Term { return Above(n, Zero) }
+
+// Numbers returns the term of a list.
+func Numbers(l ...int) api.Term {
+	t := None
+	for _, n := range slices.Backward(l) {
+		t = Cons(Number(n), t)
+	}
+	return t
+}
+
+// Num returns a number as a value, also one that is none.
+func Num(n int) api.Value { return api.Value{Kind: api.ValueNum, Num: n} }
+
+// Nums returns a list as a value.
+func Nums(l ...int) api.Value { return api.Value{Kind: api.ValueList, List: l} }
+
+// Two returns a pair as a value.
+func Two(a, b api.Value) api.Value {
+	return api.Value{Kind: api.ValuePair, Args: []api.Value{a, b}}
+}
+
 // Full returns a tree of TermPair with 2^(depth+1) - 1 nodes.
 func Full(depth int) api.Term {
 	if depth == 0 {
@@ -149,6 +175,15 @@ func Deep(t api.Term) api.Term {
 	c := api.Term{Kind: t.Kind, Index: t.Index, Type: DeepType(t.Type)}
 	for _, a := range t.Args {
 		c.Args = append(c.Args, Deep(a))
+	}
+	return c
+}
+
+// DeepValue returns a copy that shares no memory.
+func DeepValue(v api.Value) api.Value {
+	c := api.Value{Kind: v.Kind, Num: v.Num, List: slices.Clone(v.List)}
+	for _, a := range v.Args {
+		c.Args = append(c.Args, DeepValue(a))
 	}
 	return c
 }
