@@ -161,6 +161,40 @@ func Small(most int) []api.Term {
 	return all
 }
 
+// Few returns all values whose terms have at most most nodes.
+func Few(most int) []api.Value {
+	lists := [][][]int{nil} // by the nodes of their terms
+	by := [][]api.Value{nil}
+	for n := 1; n <= most; n++ {
+		var rows [][]int
+		if n == 1 {
+			rows = append(rows, nil)
+		}
+		for h := 0; h+3 <= n; h++ { // Cons, the number h, and a list
+			for _, l := range lists[n-h-2] {
+				rows = append(rows, append([]int{h}, l...))
+			}
+		}
+		lists = append(lists, rows)
+		l := []api.Value{Num(n - 1)}
+		if n == 1 {
+			l = append(l, Single)
+		}
+		for _, row := range rows {
+			l = append(l, Nums(row...))
+		}
+		for i := 1; i < n-1; i++ {
+			for _, a := range by[i] {
+				for _, b := range by[n-1-i] {
+					l = append(l, Two(a, b))
+				}
+			}
+		}
+		by = append(by, l)
+	}
+	return slices.Concat(by...)
+}
+
 // DeepType returns a copy that shares no memory.
 func DeepType(t api.Type) api.Type {
 	c := api.Type{Kind: t.Kind}
@@ -285,4 +319,21 @@ func (c *Choices) made(context []api.Type, t api.Type, depth int) api.Term {
 		return None
 	}
 	return Only
+}
+
+// Value returns a value of a type without functions, with numbers from 0 to most and at most as many elements in its lists.
+func (c *Choices) Value(t api.Type, most int) api.Value {
+	switch t.Kind {
+	case api.TypeNat:
+		return Num(c.Below(most + 1))
+	case api.TypeList:
+		l := make([]int, c.Below(most+1))
+		for i := range l {
+			l[i] = c.Below(most + 1)
+		}
+		return Nums(l...)
+	case api.TypePair:
+		return Two(c.Value(t.Args[0], most), c.Value(t.Args[1], most))
+	}
+	return Single
 }

@@ -97,52 +97,9 @@ func TestValid(t *testing.T) {
 	}
 }
 
-// wrong returns nodes of which each one is wrong in one way.
-func wrong() []api.Term {
-	l := []api.Term{
-		{}, node(-1), node(14), node(1 << 62), node(-1 << 63), node(-api.TermSucc, zero), node(0, zero), node(14, zero, zero),
-		v(-1), v(-1 << 63),
-		lam(wide(32, nat), v(0)), lam(api.Type{}, v(0)), lam(api.Type{Kind: 6}, v(0)), lam(api.Type{Kind: api.TypeFun}, v(0)), lam(fun(nat, both(api.Type{}, nat)), v(0)),
-		rec(wide(32, nat), v(0), v(0), v(0)), rec(api.Type{}, v(0), v(0), v(0)), rec(api.Type{Kind: -1}, v(0), v(0), v(0)),
-		fold(wide(32, nat), v(0), v(0), v(0)), fold(api.Type{}, v(0), v(0), v(0)), fold(both(nat, api.Type{Kind: 9}), v(0), v(0), v(0)),
-		node(api.TermPair, slices.Repeat([]api.Term{zero}, 1<<16)...), node(99, slices.Repeat([]api.Term{zero}, 1<<16)...),
-	}
-	for _, q := range [][2]int{
-		{api.TermVar, 0}, {api.TermLam, 1}, {api.TermApp, 2}, {api.TermZero, 0}, {api.TermSucc, 1}, {api.TermRec, 3}, {api.TermNil, 0},
-		{api.TermCons, 2}, {api.TermFold, 3}, {api.TermPair, 2}, {api.TermFst, 1}, {api.TermSnd, 1}, {api.TermUnit, 0},
-	} {
-		kind, n := q[0], q[1]
-		right := typed(kind, api.Type{}, slices.Repeat([]api.Term{zero}, n)...)
-		bears := kind == api.TermLam || kind == api.TermRec || kind == api.TermFold
-		if bears {
-			right.Type = nat
-		}
-		for other := range 5 {
-			if x := right; other != n {
-				x.Args = slices.Repeat([]api.Term{zero}, other)
-				l = append(l, x)
-			}
-		}
-		x := right
-		if kind != api.TermVar {
-			x.Index = 1
-			l = append(l, x)
-		}
-		x.Index = -1
-		l = append(l, x)
-		if x = right; !bears {
-			for _, s := range []api.Type{nat, {Kind: -1}, {Args: []api.Type{nat}}, fun(nat, nat)} {
-				x.Type = s
-				l = append(l, x)
-			}
-		}
-	}
-	return l
-}
-
 // P2.1: a node that is not as it should be, at any place of a tree of any size, is the first error.
 func TestForm(t *testing.T) {
-	for i, bad := range wrong() {
+	for i, bad := range samples.WrongTerms() {
 		for name, x := range map[string]api.Term{
 			"at the root":             bad,
 			"body":                    lam(nat, bad),

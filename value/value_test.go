@@ -42,16 +42,11 @@ var (
 	number, numbers   = samples.Number, samples.Numbers
 
 	num, nums, two, single = samples.Num, samples.Nums, samples.Two, samples.Single
-	deep                   = samples.DeepValue
+	plain, few, deep       = samples.Plain, samples.Few, samples.DeepValue
 )
 
 // greatest is the greatest number.
 const greatest = 1<<63 - 1
-
-// plain returns any tree, whether it is a value or not.
-func plain(kind, n int, l []int, args ...api.Value) api.Value {
-	return api.Value{Kind: kind, Num: n, List: l, Args: args}
-}
 
 // right returns n nodes ValuePair, nested in their second Args.
 func right(n int, last api.Value) api.Value {
@@ -141,31 +136,10 @@ func TestValid(t *testing.T) {
 	}
 }
 
-// wrong returns nodes of which each one is wrong in one way.
-func wrong() []api.Value {
-	const least = -1 << 63
-	behind := append(slices.Repeat([]int{1}, 1000), -1)
-	many := slices.Repeat([]api.Value{num(0)}, 1<<16)
-	l := []api.Value{
-		{}, plain(-1, 0, nil), plain(5, 0, nil), plain(api.CellFun, 0, nil), plain(least, 0, nil), plain(greatest, 0, nil), plain(1<<32+api.ValueNum, 0, nil),
-		plain(0, 1, nil), plain(0, 0, []int{1}), plain(0, 0, nil, single, single), plain(-api.ValuePair, 0, nil, single, single), plain(5, 0, nil, many...),
-		num(-1), num(least), plain(api.ValueNum, 1, []int{0}), plain(api.ValueNum, 0, []int{1, 2}), plain(api.ValueNum, 0, nil, num(0)), plain(api.ValueNum, 0, nil, single, single),
-		nums(-1), nums(least), nums(-1, 0), nums(0, -1), nums(0, -1, 0), nums(behind...),
-		plain(api.ValueList, 1, nil), plain(api.ValueList, -1, nil), plain(api.ValueList, 1, []int{1}), plain(api.ValueList, 0, nil, num(0)), plain(api.ValueList, 0, []int{1}, num(0), num(0)),
-		plain(api.ValueUnit, 1, nil), plain(api.ValueUnit, -1, nil), plain(api.ValueUnit, 0, []int{0}), plain(api.ValueUnit, 0, nil, single), plain(api.ValueUnit, 0, nil, single, single),
-		plain(api.ValuePair, 1, nil, single, single), plain(api.ValuePair, -1, nil, single, single), plain(api.ValuePair, 0, []int{0}, single, single),
-		plain(api.ValuePair, 0, nil, many...),
-	}
-	for _, n := range []int{0, 1, 3, 4} {
-		l = append(l, plain(api.ValuePair, 0, nil, many[:n]...))
-	}
-	return l
-}
-
 // P5.1: a node that is not as it should be, at any place of a tree of any size, is the first error.
 func TestForm(t *testing.T) {
 	large := full(12, num(0))
-	for i, bad := range wrong() {
+	for i, bad := range samples.WrongValues() {
 		for name, x := range map[string]api.Value{
 			"at the root":             bad,
 			"first":                   two(bad, num(0)),
@@ -252,40 +226,6 @@ func TestSame(t *testing.T) {
 		must(t, what, value.Same(q.a, q.b), q.want)
 		must(t, what+" the other way round", value.Same(q.b, q.a), q.want)
 	}
-}
-
-// few returns all values whose terms have at most most nodes.
-func few(most int) []api.Value {
-	lists := [][][]int{nil} // by the nodes of their terms
-	by := [][]api.Value{nil}
-	for n := 1; n <= most; n++ {
-		var rows [][]int
-		if n == 1 {
-			rows = append(rows, nil)
-		}
-		for h := 0; h+3 <= n; h++ { // Cons, the number h, and a list
-			for _, l := range lists[n-h-2] {
-				rows = append(rows, append([]int{h}, l...))
-			}
-		}
-		lists = append(lists, rows)
-		l := []api.Value{num(n - 1)}
-		if n == 1 {
-			l = append(l, single)
-		}
-		for _, row := range rows {
-			l = append(l, nums(row...))
-		}
-		for i := 1; i < n-1; i++ {
-			for _, a := range by[i] {
-				for _, b := range by[n-1-i] {
-					l = append(l, two(a, b))
-				}
-			}
-		}
-		by = append(by, l)
-	}
-	return slices.Concat(by...)
 }
 
 // meaning returns the term of a value as the chapter defines it.
