@@ -58,6 +58,36 @@ func Imps(n int, f api.Formula) api.Formula {
 	return f
 }
 
+// Sub returns the difference of two numbers, as chapter 5 writes it.
+func Sub() api.Term {
+	pred := Lam(Nat, Rec(Nat, Zero, Lam(Nat, Lam(Nat, Var(1))), Var(0)))
+	return Lam(Nat, Lam(Nat, Rec(Nat, Var(1), Lam(Nat, Lam(Nat, App(pred, Var(0)))), Var(0))))
+}
+
+// Less returns the equation that one number is less than another one: 21 nodes more than both.
+func Less(s, t api.Term) api.Formula { return Eq(App(Sub(), Succ(s), t), Zero) }
+
+// AllBelow returns a formula for all numbers below a term, which is given as it stands below the quantifier: 24 nodes more.
+func AllBelow(t api.Term, f api.Formula) api.Formula { return All(Nat, Imp(Less(Var(0), t), f)) }
+
+// ExBelow returns a formula for some number below a term, which is given as it stands below the quantifier: 24 nodes more.
+func ExBelow(t api.Term, f api.Formula) api.Formula { return Ex(Nat, And(Less(Var(0), t), f)) }
+
+// Up returns a term that stands below depth functions of its own with each free variable greater by one.
+func Up(t api.Term, depth int) api.Term {
+	if t.Kind == api.TermVar && t.Index >= depth {
+		t.Index++
+	}
+	if t.Kind == api.TermLam {
+		depth++
+	}
+	t.Args = slices.Clone(t.Args)
+	for i, a := range t.Args {
+		t.Args[i] = Up(a, depth)
+	}
+	return t
+}
+
 // FullFormula returns a tree of FormAnd with 5*2^depth - 1 nodes.
 func FullFormula(depth int) api.Formula {
 	if depth == 0 {
@@ -128,6 +158,27 @@ func (c *Choices) Formula(context []api.Type, depth int) api.Formula {
 // Loose returns a valid formula, which mostly is not typed in any context, at most depth nodes above each other.
 func (c *Choices) Loose(depth int) api.Formula {
 	return c.formula(nil, depth, func([]api.Type) api.Term { return c.Mixed(1 + c.Below(3)) })
+}
+
+// Decidable returns a decidable formula that is typed in a context, at most depth nodes above each other and terms and limits of about as many more.
+func (c *Choices) Decidable(context []api.Type, depth int) api.Formula {
+	side := func() api.Term { return c.OfType(context, Nat, 1+c.Below(3)) }
+	part := func() api.Formula { return c.Decidable(context, depth-1) }
+	choice := c.Below(6)
+	switch {
+	case depth <= 1 || choice == 0:
+		return Eq(side(), side())
+	case choice == 1:
+		return And(part(), part())
+	case choice <= 3:
+		return Imp(part(), part())
+	}
+	limit := Up(side(), 0)
+	body := c.Decidable(append(slices.Clone(context), Nat), depth-1)
+	if choice == 4 {
+		return AllBelow(limit, body)
+	}
+	return ExBelow(limit, body)
 }
 
 // formula returns a formula with sides of equations that a function makes in their context.
