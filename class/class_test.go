@@ -42,6 +42,7 @@ var (
 
 	sub, less         = samples.Sub, samples.Less
 	allBelow, exBelow = samples.AllBelow, samples.ExBelow
+	nested            = samples.Nested
 )
 
 // allU returns a uniform formula for all things of a type, exU one for some thing.
@@ -334,18 +335,6 @@ func TestSizes(t *testing.T) {
 	}
 }
 
-// nested returns n bounded quantifiers, all of them All or all Ex, above a formula: 25*n nodes more.
-func nested(n int, every bool, f api.Formula) api.Formula {
-	for range n {
-		if every {
-			f = allBelow(zero, f)
-		} else {
-			f = exBelow(zero, f)
-		}
-	}
-	return f
-}
-
 // P8.3: bounded quantifiers below others, as many as there may be.
 func TestNested(t *testing.T) {
 	for name, q := range map[string]struct {
@@ -369,33 +358,9 @@ func TestNested(t *testing.T) {
 	}
 }
 
-// tooLarge returns formulas that have too many nodes, all of them as they should be.
-func tooLarge() map[string]api.Formula {
-	return map[string]api.Formula{
-		"one more in a term":           eq(num(4094), zero),
-		"a term that is too large":     eq(num(4096), zero),
-		"both terms too large":         eq(full(12), full(12)),
-		"one more quantifier":          alls(4093, falsum()),
-		"one more in first Args":       ands(818, eq(zero, num(4))),
-		"one more in last Args":        imps(818, eq(zero, num(4))),
-		"one more below all":           nested(163, true, eq(num(19), zero)),
-		"one more below some":          nested(163, false, eq(num(19), zero)),
-		"one more in a limit":          allBelow(num(4068), falsum()),
-		"a limit that is too large":    exBelow(num(4096), falsum()),
-		"one more in a task":           alls(4091, ex(nat, eq(zero, num(2)))),
-		"5119 nodes":                   samples.FullFormula(10),
-		"2^16 quantifiers":             alls(1<<16, falsum()),
-		"2^16 levels in first Args":    ands(1<<16, falsum()),
-		"2^16 levels in last Args":     imps(1<<16, falsum()),
-		"2^16 levels of a limit":       allBelow(above(1<<16, zero), falsum()),
-		"many levels of limits":        nested(3000, true, falsum()),
-		"2^16 levels in front of a Ex": alls(1<<16, ex(nat, falsum())),
-	}
-}
-
 // P8.1 to P8.3: too many nodes.
 func TestTooLarge(t *testing.T) {
-	for name, x := range tooLarge() {
+	for name, x := range samples.LargeFormulas() {
 		must(t, name, errorOf(t, name, x), api.ErrSize)
 	}
 }

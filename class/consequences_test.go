@@ -108,27 +108,6 @@ func TestTypedStays(t *testing.T) {
 	}
 }
 
-// marked returns a formula with something behind the ends of its slices, at all of its nodes.
-func marked(f api.Formula) api.Formula {
-	f.Terms = append(slices.Clone(f.Terms), node(77))[:len(f.Terms)]
-	f.Args = append(slices.Clone(f.Args), tree(77, nat, nil))[:len(f.Args)]
-	f.Type.Args = append(slices.Clone(f.Type.Args), list)[:len(f.Type.Args)]
-	for i, a := range f.Args {
-		f.Args[i] = marked(a)
-	}
-	return f
-}
-
-// mustBeMarked fails the test if what stood behind the ends of the slices of a formula is not there.
-func mustBeMarked(t *testing.T, f api.Formula) {
-	t.Helper()
-	terms, args, types := f.Terms[:len(f.Terms)+1], f.Args[:len(f.Args)+1], f.Type.Args[:len(f.Type.Args)+1]
-	must(t, "behind the ends", []any{terms[len(terms)-1], args[len(args)-1], types[len(types)-1]}, []any{node(77), tree(77, nat, nil), list})
-	for _, a := range f.Args {
-		mustBeMarked(t, a)
-	}
-}
-
 // R2: arguments stay as they were, and so does what lies behind them in their memory. R4: results depend on arguments alone.
 func TestArgumentsStay(t *testing.T) {
 	for i, f := range []api.Formula{
@@ -136,9 +115,8 @@ func TestArgumentsStay(t *testing.T) {
 		allBelow(app(v(1), lam(nat, v(2))), imp(exBelow(v(4), eq(v(0), v(2))), falsum())),
 		exBelow(v(3), all(nat, ex(list, falsum()))),
 	} {
-		f = marked(f)
-		s := pair(v(0), v(1))
-		s.Args = append(s.Args, node(77))[:2]
+		f = samples.MarkedFormula(f)
+		s := samples.MarkedTerm(pair(v(0), v(1)))
 		was, wasS := samples.DeepFormula(f), samples.Deep(s)
 		call := func() []any {
 			content, _ := class.Content(f)
@@ -154,7 +132,7 @@ func TestArgumentsStay(t *testing.T) {
 		first := call()
 		must(t, strconv.Itoa(i)+": once more", call(), first)
 		must(t, strconv.Itoa(i)+": formula", samples.DeepFormula(f), was)
-		must(t, strconv.Itoa(i)+": term", []any{samples.Deep(s), s.Args[:3][2]}, []any{wasS, node(77)})
-		mustBeMarked(t, f)
+		must(t, strconv.Itoa(i)+": term", samples.Deep(s), wasS)
+		must(t, strconv.Itoa(i)+": behind the ends", []bool{samples.FormulaIsMarked(f), samples.TermIsMarked(s)}, []bool{true, true})
 	}
 }

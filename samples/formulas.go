@@ -73,6 +73,18 @@ func AllBelow(t api.Term, f api.Formula) api.Formula { return All(Nat, Imp(Less(
 // ExBelow returns a formula for some number below a term, which is given as it stands below the quantifier: 24 nodes more.
 func ExBelow(t api.Term, f api.Formula) api.Formula { return Ex(Nat, And(Less(Var(0), t), f)) }
 
+// Nested returns n bounded quantifiers over no number, all of them All or all Ex, above a formula: 25*n nodes more.
+func Nested(n int, every bool, f api.Formula) api.Formula {
+	for range n {
+		if every {
+			f = AllBelow(Zero, f)
+		} else {
+			f = ExBelow(Zero, f)
+		}
+	}
+	return f
+}
+
 // Up returns a term that stands below depth functions of its own with each free variable greater by one.
 func Up(t api.Term, depth int) api.Term {
 	if t.Kind == api.TermVar && t.Index >= depth {

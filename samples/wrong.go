@@ -74,3 +74,27 @@ func WrongValues() []api.Value {
 	}
 	return l
 }
+
+// LargeFormulas returns formulas that have too many nodes, all of them as they should be.
+func LargeFormulas() map[string]api.Formula {
+	return map[string]api.Formula{
+		"one more in a term":           Eq(Number(4094), Zero),
+		"a term that is too large":     Eq(Number(4096), Zero),
+		"both terms too large":         Eq(Full(12), Full(12)),
+		"one more quantifier":          Alls(4093, Falsum()),
+		"one more in first Args":       Ands(818, Eq(Zero, Number(4))),
+		"one more in last Args":        Imps(818, Eq(Zero, Number(4))),
+		"one more below all":           Nested(163, true, Eq(Number(19), Zero)),
+		"one more below some":          Nested(163, false, Eq(Number(19), Zero)),
+		"one more in a limit":          AllBelow(Number(4068), Falsum()),
+		"a limit that is too large":    ExBelow(Number(4096), Falsum()),
+		"one more in a task":           Alls(4091, Ex(Nat, Eq(Zero, Number(2)))),
+		"5119 nodes":                   FullFormula(10),
+		"2^16 quantifiers":             Alls(1<<16, Falsum()),
+		"2^16 levels in first Args":    Ands(1<<16, Falsum()),
+		"2^16 levels in last Args":     Imps(1<<16, Falsum()),
+		"2^16 levels of a limit":       AllBelow(Above(1<<16, Zero), Falsum()),
+		"many levels of limits":        Nested(3000, true, Falsum()),
+		"2^16 levels in front of a Ex": Alls(1<<16, Ex(Nat, Falsum())),
+	}
+}
