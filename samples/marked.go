@@ -13,6 +13,7 @@ var (
 	typeMark    = api.Type{Kind: 77}
 	termMark    = api.Term{Kind: 77}
 	formulaMark = api.Formula{Kind: 77}
+	proofMark   = api.Proof{Kind: 77}
 )
 
 // MarkedTerm returns a term with something behind the ends of its slices, at all of its nodes.
@@ -53,4 +54,33 @@ func FormulaIsMarked(f api.Formula) bool {
 	return here &&
 		!slices.ContainsFunc(f.Terms, func(t api.Term) bool { return !TermIsMarked(t) }) &&
 		!slices.ContainsFunc(f.Args, func(a api.Formula) bool { return !FormulaIsMarked(a) })
+}
+
+// MarkedProof returns a proof with something behind the ends of its slices and of those of its terms and formulas, at all of its nodes.
+func MarkedProof(p api.Proof) api.Proof {
+	p.Type.Args = append(slices.Clone(p.Type.Args), typeMark)[:len(p.Type.Args)]
+	p.Terms = append(slices.Clone(p.Terms), termMark)[:len(p.Terms)]
+	p.Forms = append(slices.Clone(p.Forms), formulaMark)[:len(p.Forms)]
+	p.Args = append(slices.Clone(p.Args), proofMark)[:len(p.Args)]
+	for i, t := range p.Terms {
+		p.Terms[i] = MarkedTerm(t)
+	}
+	for i, f := range p.Forms {
+		p.Forms[i] = MarkedFormula(f)
+	}
+	for i, a := range p.Args {
+		p.Args[i] = MarkedProof(a)
+	}
+	return p
+}
+
+// ProofIsMarked reports whether what MarkedProof put behind the ends of slices is still there.
+func ProofIsMarked(p api.Proof) bool {
+	s, n, m, k := len(p.Type.Args), len(p.Terms), len(p.Forms), len(p.Args)
+	here := types.Same(p.Type.Args[:s+1][s], typeMark) && terms.Same(p.Terms[:n+1][n], termMark) &&
+		p.Forms[:m+1][m].Kind == formulaMark.Kind && p.Args[:k+1][k].Kind == proofMark.Kind
+	return here &&
+		!slices.ContainsFunc(p.Terms, func(t api.Term) bool { return !TermIsMarked(t) }) &&
+		!slices.ContainsFunc(p.Forms, func(f api.Formula) bool { return !FormulaIsMarked(f) }) &&
+		!slices.ContainsFunc(p.Args, func(a api.Proof) bool { return !ProofIsMarked(a) })
 }

@@ -1,4 +1,4 @@
-// Package samples makes types, terms, values and formulas, and trees that are none, for the tests of the layers. No layer uses it.
+// Package samples makes types, terms, values, formulas and proofs, and trees that are none, for the tests of the layers. No layer uses it.
 package samples
 
 import (
