@@ -157,7 +157,7 @@ func TestTypedAndUsed(t *testing.T) {
 	}
 }
 
-// lifts returns what change makes of formulas.
+// changed returns what change makes of formulas.
 func changed(t *testing.T, l []api.Formula, change func(f api.Formula) (api.Formula, api.Errno)) []api.Formula {
 	t.Helper()
 	var r []api.Formula
@@ -232,15 +232,13 @@ func TestPutHyp(t *testing.T) {
 		more := api.Sequent{Types: x.s.Types, Hyps: slices.Insert(slices.Clone(x.s.Hyps), len(x.s.Hyps)-at, f)}
 		// Proofs for the larger sequent, which may use the hypothesis.
 		p, g := c.Proven(x.lemmas, more, 4)
+		if hyps, _ := proof.Hyps(q); len(hyps) > 0 && hyps[0] < at {
+			continue // it has to stand in the hypotheses beyond at
+		}
 		if hyps, _ := proof.Hyps(p); slices.Contains(hyps, at) {
 			there++
 		}
-		inner := q // stands in the hypotheses beyond at, which may have no number less
-		if hyps, _ := proof.Hyps(q); len(hyps) > 0 && hyps[0] < at {
-			continue
-		}
-		inner = lowered(q, at)
-		p, err := proof.PutHyp(p, at, inner)
+		p, err := proof.PutHyp(p, at, lowered(q, at))
 		must(t, strconv.Itoa(i), err, api.OK)
 		must(t, strconv.Itoa(i)+": accepted", kernel.Accepts(x.lemmas, x.s, p, g), api.OK)
 	}

@@ -45,7 +45,7 @@ func TestNotThere(t *testing.T) {
 	k.lemmas = times(3, falsum())
 	for _, n := range []int{2, 3, 16, farthest, farthest + 1, 1 << 62, greatest} {
 		k.refuses(t, "hypothesis "+strconv.Itoa(n), hyp(n), api.ErrHyp)
-		k.refuses(t, "lemma "+strconv.Itoa(n+1-n/greatest), lemma(n+1-n/greatest), api.ErrLemma)
+		k.refuses(t, "lemma "+strconv.Itoa(n), lemma(max(n, 3)), api.ErrLemma)
 	}
 	in(nil).refuses(t, "no hypothesis", hyp(0), api.ErrHyp)
 	in(nil).refuses(t, "no lemma", lemma(0), api.ErrLemma)

@@ -68,9 +68,9 @@ func TestBinding(t *testing.T) {
 			}
 		}
 	}
-	none := in(nil)
-	none.proves(t, "16 variables", allIs(16, refl(v(15))), alls(16, eq(v(15), v(15))))
-	none.refuses(t, "17 variables", allIs(17, refl(v(15))), api.ErrLimit)
+	empty := in(nil)
+	empty.proves(t, "16 variables", allIs(16, refl(v(15))), alls(16, eq(v(15), v(15))))
+	empty.refuses(t, "17 variables", allIs(17, refl(v(15))), api.ErrLimit)
 	// What is bound in one part is not bound in the next one.
 	two := full(15, 15)
 	p := andI(impI(falsum(), hyp(15)), andI(allIs(1, refl(v(15))), impI(falsum(), allIs(1, refl(v(15))))))
