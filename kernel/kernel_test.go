@@ -43,7 +43,7 @@ const (
 func allU(s api.Type, f api.Formula) api.Formula { return quant(api.FormAllU, s, f) }
 func exU(s api.Type, f api.Formula) api.Formula  { return quant(api.FormExU, s, f) }
 
-// id returns a number that is not normal: two nodes and one step more.
+// id returns a number that is not normal: three nodes and one step more.
 func id(t api.Term) api.Term { return app(lam(nat, v(0)), t) }
 
 // must fails the test if what a call returned is not what it should be.
